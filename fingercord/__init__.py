@@ -1,0 +1,1 @@
+"""Cords over fingers: pulled taut, let go, closed and told alike."""
