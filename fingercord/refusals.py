@@ -16,6 +16,21 @@ class NoSetsTold(Refusal):
         Refusal.__init__(self, -3)
 
 
+class TooMany(Refusal):
+    def __init__(self):
+        Refusal.__init__(self, -4)
+
+
+class NotMade(Refusal):
+    def __init__(self):
+        Refusal.__init__(self, -5)
+
+
+class GrowsTooLong(Refusal):
+    def __init__(self):
+        Refusal.__init__(self, -6)
+
+
 class TextTooLong(Refusal):
     def __init__(self):
         Refusal.__init__(self, -8)

@@ -7,6 +7,7 @@ one another if they differ in the last bit alone. A cord is a list of turns.
 
 SMALL_A = 97
 GREAT_A = 65
+SEMICOLON = 59
 
 
 def finger_of(turn):
@@ -21,6 +22,10 @@ def small_turn(finger):
     return 2 * finger
 
 
+def is_small(turn):
+    return turn == small_turn(finger_of(turn))
+
+
 def turn_told(byte, fingers):
     if SMALL_A <= byte < SMALL_A + fingers:
         return small_turn(byte - SMALL_A)
@@ -30,14 +35,21 @@ def turn_told(byte, fingers):
 
 
 def letter_of(turn):
-    finger = finger_of(turn)
-    if turn == small_turn(finger):
-        return SMALL_A + finger
-    return GREAT_A + finger
+    first = SMALL_A if is_small(turn) else GREAT_A
+    return first + finger_of(turn)
 
 
 def letters_of(cord):
     return [letter_of(turn) for turn in cord]
+
+
+def letters_between_semicolons(cords):
+    letters = []
+    for place, cord in enumerate(cords):
+        if place > 0:
+            letters.append(SEMICOLON)
+        letters.extend(letters_of(cord))
+    return letters
 
 
 def pulled_taut(cord):
@@ -52,3 +64,12 @@ def pulled_taut(cord):
 
 def turned_back(cord):
     return [other_way(turn) for turn in reversed(cord)]
+
+
+# Both are taut already, so only where they meet do turns undo one another.
+def put_behind(cord, more):
+    undone = 0
+    while undone < len(more) and cord and cord[-1] == other_way(more[undone]):
+        cord.pop()
+        undone = undone + 1
+    cord.extend(more[undone:])

@@ -66,7 +66,8 @@ def imports_of(tree):
 
 
 def defined_at_top(tree):
-    return [node.name for node in tree.body if isinstance(node, (ast.FunctionDef, ast.ClassDef))]
+    defs = [node.name for node in tree.body if isinstance(node, (ast.FunctionDef, ast.ClassDef))]
+    return defs + [target.id for target in top_targets(tree)]
 
 
 class Language(unittest.TestCase):

@@ -1,42 +1,17 @@
 """Long inputs, lists of many calls, and what holds of the function as a whole."""
 
-import time
 import unittest
 
 from fingercord.cords import answers
-from support import (WITH_A_CORD, alike, ask, ask_with, commute, falls, fingers, fits, make, ring, root,
-                     sets, slow_back, slow_least_sets, slow_made, slow_taut, some_cords, taut, told_as)
+from support import (WITH_A_CORD, LongCase, alike, ask, ask_with, basis, commute, every_finger, exchange, falls,
+                     fingers, fits, growing_cord, join, long_cord, make, member, moves, onto, ring, root, sets, size,
+                     slow_back, slow_least_sets, slow_made, taut, told_as, turn, within_a_few_seconds,
+                     write)
 
-A_FEW_SECONDS = 5
 TOLD = [63, 62, 61, 59, 55, 47, 31, 60, 58, 54, 46, 30]
 
 
-def long_cord(n, seed):
-    """A cord of just 2000 turns with n fingers, hardly any of which pull taut."""
-    cord = ""
-    for piece in some_cords(n, 2000, 30, seed):
-        cord = slow_taut(cord + piece)
-        if len(cord) >= 2000:
-            return cord[:2000]
-    raise ValueError("too few pieces")
-
-
-def growing_cord():
-    """Each piece the two before it: hard to tell where the first in order begins."""
-    before, cord = "a", "ab"
-    while len(cord) < 2000:
-        before, cord = cord, cord + before
-    return cord[:2000]
-
-
-def within_a_few_seconds(case, calls):
-    begun = time.perf_counter()
-    found = answers(calls)
-    case.assertLess(time.perf_counter() - begun, A_FEW_SECONDS)
-    return found
-
-
-class LongCords(unittest.TestCase):
+class LongCords(LongCase):
     def test_taut(self):
         cord = long_cord(3, 1)
         self.assertEqual(ask(taut("aA" * 1000), taut("a" * 1000 + "A" * 1000), taut("ab" * 1000), taut(cord)),
@@ -95,12 +70,12 @@ class LongCords(unittest.TestCase):
                          [[0, 1], [0, 1], [0, 0], [0, 0]])
 
 
-class Quick(unittest.TestCase):
+class Quick(LongCase):
     def test_as_many_long_cords_as_a_list_holds(self):
         cords = [long_cord(6, 4), "a" * 2000, growing_cord(), "a" * 1999 + "b", "ab" * 999 + "ac",
                  "b" * 999 + "ac" + "B" * 999, "a" * 1000 + "A" * 1000]
         for name, call in WITH_A_CORD.items():
-            calls = fingers(6)
+            calls = fingers(6) + moves(every_finger(6))
             for cord in cords:
                 calls += call(cord)
             found = within_a_few_seconds(self, calls)
@@ -134,7 +109,13 @@ def every_call():
     return (fingers(4) + taut("abBAd") + falls(3, "abAB") + sets("adADbdBD") + make([3, 12]) + fits([3], "abAB")
             + ring("baB") + alike("ab", "ba") + root("baaB") + commute("aa", "AAA") + fingers(7) + taut("a?")
             + falls(16, "a") + falls(0, "a") + sets("?") + make([]) + make([1, 1]) + fits([0], "a") + fits([1], "b")
-            + ring("a" * 2001) + alike("a", "?") + alike("a", "b") + root("") + commute("a", "b") + taut(""))
+            + ring("a" * 2001) + alike("a", "?") + alike("a", "b") + root("") + commute("a", "b") + taut("")
+            + join("ab", "Ba") + join("?", "a") + moves("aab;bA;dD") + moves(";;;;;;") + moves("a?") + member("abb")
+            + member("a?") + size() + basis() + write("BAAbA") + write("c") + exchange("ab;bA;;d") + exchange("a;b;c")
+            + exchange("e;;;") + turn(5, "acdB") + turn(65, "a") + turn(64, "a") + onto())
+
+
+HOW_MANY_CALLS = 43
 
 
 class KeptList(list):
@@ -147,7 +128,7 @@ class KeptList(list):
     __setitem__ = __delitem__ = __iadd__ = __imul__ = fail
 
 
-class AsAWhole(unittest.TestCase):
+class AsAWhole(LongCase):
     def test_what_was_handed_in_is_as_it_was(self):
         calls = every_call()
         before = list(calls)
@@ -175,7 +156,7 @@ class AsAWhole(unittest.TestCase):
 
     def test_counts_and_refusals(self):
         found = ask(every_call())
-        self.assertEqual(len(found), 25)
+        self.assertEqual(len(found), HOW_MANY_CALLS)
         for answer in found:
             self.assertTrue(answer[0] == 0 or answer[0] < 0 and len(answer) == 1, answer)
 

@@ -1,9 +1,9 @@
-"""Wrong inputs, and right ones on the edge of them, for each of the calls 0 to 9."""
+"""Wrong inputs, and right ones on the edge of them, for the calls 0 to 10 and each call that takes a cord."""
 
 import unittest
 
-from support import (FAR, WITH_A_CORD, alike, ask, commute, falls, fingers, fits, make, ring, root,
-                     sets, taut, told_as)
+from support import (FAR, WITH_A_CORD, alike, ask, commute, every_finger, falls, fingers, fits, join, make,
+                     member, moves, ring, root, sets, taut, told_as, turn, write)
 
 
 class Fingers(unittest.TestCase):
@@ -36,11 +36,11 @@ class Fingers(unittest.TestCase):
 class CordsToldWrongly(unittest.TestCase):
     def each(self, cord, answer, n=3):
         for name, call in WITH_A_CORD.items():
-            self.assertEqual(ask(fingers(n), call(cord))[1], answer, (name, n))
+            self.assertEqual(ask(fingers(n), moves(every_finger(n)), call(cord))[2], answer, (name, n))
 
     def each_is_taken(self, cord, n=3):
         for name, call in WITH_A_CORD.items():
-            self.assertEqual(ask(fingers(n), call(cord))[1][0], 0, (name, n))
+            self.assertEqual(ask(fingers(n), moves(every_finger(n)), call(cord))[2][0], 0, (name, n))
 
     def test_an_empty_cord_is_taken(self):
         for n in range(1, 7):
@@ -173,7 +173,7 @@ class SetsTold(unittest.TestCase):
 class OfTwoCords(unittest.TestCase):
     def test_the_first_ones_refusals_go_first(self):
         long = "a" * 2001
-        for call in (alike, commute):
+        for call in (alike, commute, join):
             self.assertEqual(ask(call("ab?", "?"), call("?", "ab?")), [[-1002], [-1000]])
             self.assertEqual(ask(call("ab?", long), call(long, "ab?")), [[-1002], [-8]])
             self.assertEqual(ask(call("ab", long), call(long, "ab")), [[-8], [-8]])
@@ -189,6 +189,10 @@ class EmptyCords(unittest.TestCase):
                         ring(cord), alike(cord, ""), alike(cord, "a"), root(cord), commute(cord, "a"),
                         commute("a", cord), commute(cord, cord))[1:],
                     [[0], [0, 1], [0, 1], [0, 0], [0, 0], [0], [0, 1], [0, 0], [0, 0], [0, 1], [0, 1], [0, 1]])
+                self.assertEqual(
+                    ask(fingers(n), join(cord, cord), join(cord, "a"), join("a", cord), member(cord), write(cord),
+                        turn(0, cord), turn(64, cord))[1:],
+                    [[0], [0, 97], [0, 97], [0, 1], [0], [0], [0]])
 
 
 if __name__ == "__main__":
